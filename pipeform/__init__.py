@@ -1,0 +1,1 @@
+"""Pipeform: normal forms of pipelines of line tools."""
