@@ -132,3 +132,22 @@ def satisfies_point_9(pipeline):
                 return False
         before = sizes[-1] if sizes else before - skipped - chopped
     return not turned or before >= 2
+
+
+def small_changes(pipeline, numbers):
+    """Pipelines that differ from one by a number one more or less, or by one command."""
+    commands = all_commands(numbers)
+    for at, command in enumerate(pipeline):
+        before, after = pipeline[:at], pipeline[at + 1:]
+        if len(command) == 2:
+            for number in (command[1] - 1, command[1] + 1):
+                if number in numbers:
+                    yield before + [(command[0], number)] + after
+        yield before + after
+        for other in commands:
+            yield before + [other] + after
+        if after:
+            yield before + [after[0], command] + after[1:]
+    for at in range(len(pipeline) + 1):
+        for command in commands:
+            yield pipeline[:at] + [command] + pipeline[at:]

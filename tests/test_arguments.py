@@ -1,4 +1,4 @@
-"""Point 2: arguments are neither changed nor kept, results are new, and names may be given."""
+"""Point 2: arguments are neither changed nor kept, results are new, and names may be given (for Live: test_live)."""
 
 import unittest
 from copy import deepcopy
@@ -6,6 +6,8 @@ from random import Random
 
 from pipeform.errors import PipeError
 from pipeform.normal import equivalent, is_normal, normal_form
+from pipeform.parting import parting_lines
+from pipeform.powers import power
 from pipeform.running import run, run_on_runs
 from tests.model import HUGE, all_pipelines, random_pipeline
 
@@ -22,6 +24,13 @@ CALLS = [
     (is_normal, ()),
     (equivalent, ([('skip', 1), ('uniq',)],)),
     (equivalent, ([('skip', 1), ('uniq', 1)],)),
+    (parting_lines, ([('skip', 1), ('uniq',)],)),
+    (parting_lines, ([],)),
+    (parting_lines, ([('skip', 1), ('uniq', 1)],)),
+    (power, (0,)),
+    (power, (1,)),
+    (power, (HUGE,)),
+    (power, (-1,)),
 ]
 
 PIPELINES = list(all_pipelines([0, 1, 2], 2)) + [[('uniq',), ('tail', -1)], [('skip',)]]
@@ -51,16 +60,21 @@ class Arguments(unittest.TestCase):
                 result = outcome(function, arguments)
                 if isinstance(result, list):
                     expected = deepcopy(result)
+                    self.assertIsNot(function(*arguments), result)
                     self.assertTrue(all(result is not argument for argument in arguments))
                     result.append('more')
                     result[0] = 'other'
+                    result.reverse()
                     self.assertEqual(arguments, before)
                     self.assertEqual(function(*arguments), expected)
 
     def test_a_changed_argument_has_no_effect_on_a_result(self):
         for pipeline in PIPELINES[:-2]:
             commands, lines, runs = list(pipeline), list(LINES), list(RUNS)
-            results = [run(commands, lines), run_on_runs(commands, runs), normal_form(commands)]
+            results = [
+                run(commands, lines), run_on_runs(commands, runs), normal_form(commands), power(commands, 1),
+                power(commands, 2), parting_lines(commands, lines[:0]), parting_lines([('head', 0)], commands),
+            ]
             expected = deepcopy(results)
             for argument in (commands, lines, runs):
                 argument.insert(0, ('head', 0))
@@ -76,6 +90,7 @@ class Arguments(unittest.TestCase):
     def test_one_list_for_both_arguments(self):
         pipeline = [('uniq',), ('skip', 1)]
         self.assertIs(equivalent(pipeline, pipeline), True)
+        self.assertIsNone(parting_lines(pipeline, pipeline))
         self.assertEqual(pipeline, [('uniq',), ('skip', 1)])
 
 
@@ -91,17 +106,26 @@ class Names(unittest.TestCase):
         self.assertIs(is_normal(pipeline=pipeline), True)
         self.assertIs(equivalent(first=pipeline, second=[]), False)
         self.assertIs(equivalent(second=pipeline, first=pipeline), True)
+        for parted in (
+            parting_lines(first=pipeline, second=[]),
+            parting_lines(second=[], first=pipeline),
+            parting_lines(pipeline, second=[]),
+        ):
+            self.assertNotEqual(run(pipeline, parted), parted)
+        self.assertEqual(power(pipeline=pipeline, times=3), [('uniq',), ('skip', 3)])
+        self.assertEqual(power(times=3, pipeline=pipeline), [('uniq',), ('skip', 3)])
+        self.assertEqual(power(pipeline, times=3), [('uniq',), ('skip', 3)])
 
 
 class Kinds(unittest.TestCase):
     def test_pipelines_are_lists_of_tuples(self):
         for pipeline in PIPELINES[:-2]:
-            form = normal_form(pipeline)
-            self.assertIs(type(form), list)
-            for command in form:
-                self.assertIs(type(command), tuple)
-                self.assertIs(type(command[0]), str)
-                self.assertTrue(all(type(number) is int for number in command[1:]))
+            for form in (normal_form(pipeline), power(pipeline, 0), power(pipeline, 1), power(pipeline, HUGE)):
+                self.assertIs(type(form), list)
+                for command in form:
+                    self.assertIs(type(command), tuple)
+                    self.assertIs(type(command[0]), str)
+                    self.assertTrue(all(type(number) is int for number in command[1:]))
 
     def test_truth_values(self):
         for pipeline in PIPELINES[:-2]:

@@ -4,7 +4,10 @@ import unittest
 
 from pipeform import errors
 from pipeform.errors import InvalidCommand, InvalidIndex, InvalidNumber, InvalidRun, PipeError, Unreadable
+from pipeform.live import Live
 from pipeform.normal import equivalent, is_normal, normal_form
+from pipeform.parting import parting_lines
+from pipeform.powers import power
 from pipeform.running import run, run_on_runs
 from tests.model import HUGE, INVALID_ELEMENTS, all_commands
 
@@ -20,6 +23,13 @@ CALLS = {
     'equivalent, first': lambda pipeline: equivalent(pipeline, []),
     'equivalent, second': lambda pipeline: equivalent([], pipeline),
     'equivalent, both': lambda pipeline: equivalent(pipeline, pipeline),
+    'parting_lines, first': lambda pipeline: parting_lines(pipeline, []),
+    'parting_lines, second': lambda pipeline: parting_lines([('sort',)], pipeline),
+    'parting_lines, both': lambda pipeline: parting_lines(pipeline, pipeline),
+    'power': lambda pipeline: power(pipeline, 3),
+    'power, no times': lambda pipeline: power(pipeline, 0),
+    'Live': lambda pipeline: Live(pipeline, ['b', 'a']),
+    'Live on nothing': lambda pipeline: Live(pipeline, []),
 }
 
 
@@ -86,9 +96,11 @@ class PipelineCheck(unittest.TestCase):
     def test_commands_raise_nothing(self):
         for call in CALLS:
             CALLS[call]([])
-            for command in all_commands([0, 1, 2, 60, HUGE]):
+            # Lists that part pipelines with large numbers may be too long to be written out.
+            parting = 'parting' in call and 'both' not in call
+            for command in all_commands([0, 1, 4] if parting else [0, 1, 2, 60, HUGE]):
                 CALLS[call]([command])
-                CALLS[call]([command] * 12)
+                CALLS[call]([command] * (5 if parting else 12))
 
     def test_behind_a_command_that_keeps_nothing(self):
         for call in CALLS:
@@ -108,14 +120,20 @@ class Order(unittest.TestCase):
             self.assertEqual(caught.exception.value, 2)
 
     def test_first_pipeline_before_second(self):
+        for function in (equivalent, parting_lines):
+            for first, second, index in [
+                ([('uniq',), ('uniq',), ('skip', -1)], [('reverse', 1)], 2),
+                ([('skip',)], [('uniq',), ('reverse', 1)], 0),
+                ([('uniq',)], [('uniq',), ('reverse', 1)], 1),
+                ([], [('head', 0), ('sort',), ('tail',), ('chop',)], 2),
+            ]:
+                with self.assertRaises(InvalidCommand) as caught:
+                    function(first, second)
+                self.assertEqual(caught.exception.value, index, function)
+
+    def test_pipeline_before_times(self):
         with self.assertRaises(InvalidCommand) as caught:
-            equivalent([('uniq',), ('uniq',), ('skip', -1)], [('reverse', 1)])
-        self.assertEqual(caught.exception.value, 2)
-        with self.assertRaises(InvalidCommand) as caught:
-            equivalent([('skip',)], [('uniq',), ('reverse', 1)])
-        self.assertEqual(caught.exception.value, 0)
-        with self.assertRaises(InvalidCommand) as caught:
-            equivalent([('uniq',)], [('uniq',), ('reverse', 1)])
+            power([('uniq',), ('head', -1)], -1)
         self.assertEqual(caught.exception.value, 1)
 
 

@@ -9,6 +9,16 @@ PACKAGE = Path(__file__).resolve().parent.parent / 'pipeform'
 FUNCTIONS = {
     'running.py': {'run': ['pipeline', 'lines'], 'run_on_runs': ['pipeline', 'runs']},
     'normal.py': {'normal_form': ['pipeline'], 'is_normal': ['pipeline'], 'equivalent': ['first', 'second']},
+    'parting.py': {'parting_lines': ['first', 'second']},
+    'powers.py': {'power': ['pipeline', 'times']},
+}
+METHODS = {
+    'live.py': {
+        'Live': {
+            '__init__': ['self', 'pipeline', 'lines'], '__eq__': ['self', 'other'], 'lines': ['self'],
+            'result': ['self'], 'insert': ['self', 'index', 'line'], 'remove': ['self', 'index'],
+        },
+    },
 }
 ERRORS = {
     'PipeError': 'ValueError', 'InvalidCommand': 'PipeError', 'InvalidRun': 'PipeError', 'InvalidIndex': 'PipeError',
@@ -31,6 +41,14 @@ class Interface(unittest.TestCase):
             found = {node.name: node for node in tree(name).body if isinstance(node, ast.FunctionDef)}
             for function, parameters in functions.items():
                 self.assertEqual([part.arg for part in found[function].args.args], parameters)
+
+    def test_classes_are_defined_in_their_files_with_their_own_methods(self):
+        for name, classes in METHODS.items():
+            found = {node.name: node for node in tree(name).body if isinstance(node, ast.ClassDef)}
+            for kind, methods in classes.items():
+                own = {node.name: node for node in found[kind].body if isinstance(node, ast.FunctionDef)}
+                for method, parameters in methods.items():
+                    self.assertEqual([part.arg for part in own[method].args.args], parameters)
 
     def test_errors_are_defined_in_their_file_with_their_own_methods(self):
         found = {node.name: node for node in tree('errors.py').body if isinstance(node, ast.ClassDef)}
