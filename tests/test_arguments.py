@@ -1,9 +1,13 @@
-"""Point 2: arguments are neither changed nor kept, results are new, and names may be given (for Live: test_live)."""
+"""Point 2: arguments are neither changed nor kept, results are new, and names may be given.
+
+For Live: test_live; for texts: test_texts.
+"""
 
 import unittest
 from copy import deepcopy
 from random import Random
 
+from pipeform.counting import count_inputs
 from pipeform.errors import PipeError
 from pipeform.normal import equivalent, is_normal, normal_form
 from pipeform.parting import parting_lines
@@ -31,6 +35,10 @@ CALLS = [
     (power, (1,)),
     (power, (HUGE,)),
     (power, (-1,)),
+    (count_inputs, (['b', 'a'], 3, 2)),
+    (count_inputs, ([], 0, 1)),
+    (count_inputs, (['a'], -1, 0)),
+    (count_inputs, (['a'], 1, 0)),
 ]
 
 PIPELINES = list(all_pipelines([0, 1, 2], 2)) + [[('uniq',), ('tail', -1)], [('skip',)]]

@@ -3,6 +3,7 @@
 import unittest
 
 from pipeform import errors
+from pipeform.counting import count_inputs
 from pipeform.errors import InvalidCommand, InvalidIndex, InvalidNumber, InvalidRun, PipeError, Unreadable
 from pipeform.live import Live
 from pipeform.normal import equivalent, is_normal, normal_form
@@ -28,6 +29,8 @@ CALLS = {
     'parting_lines, both': lambda pipeline: parting_lines(pipeline, pipeline),
     'power': lambda pipeline: power(pipeline, 3),
     'power, no times': lambda pipeline: power(pipeline, 0),
+    'count_inputs': lambda pipeline: count_inputs(pipeline, ['a'], 3, 2),
+    'count_inputs, no lines': lambda pipeline: count_inputs(pipeline, [], 0, 1),
     'Live': lambda pipeline: Live(pipeline, ['b', 'a']),
     'Live on nothing': lambda pipeline: Live(pipeline, []),
 }

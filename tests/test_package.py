@@ -11,6 +11,9 @@ FUNCTIONS = {
     'normal.py': {'normal_form': ['pipeline'], 'is_normal': ['pipeline'], 'equivalent': ['first', 'second']},
     'parting.py': {'parting_lines': ['first', 'second']},
     'powers.py': {'power': ['pipeline', 'times']},
+    'counting.py': {'count_inputs': ['pipeline', 'result', 'length', 'kinds']},
+    'texts.py': {'show_pipeline': ['pipeline']},
+    'readings.py': {'read_pipeline': ['text']},
 }
 METHODS = {
     'live.py': {
